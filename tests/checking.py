@@ -1,0 +1,66 @@
+"""What several tests use: a case that looks at errors closely, and values of every kind."""
+
+import unittest
+
+from uplines.sheets import Sheet
+
+
+class Case(unittest.TestCase):
+    def assert_same(self, found, wanted):
+        """Equal, of the same kind, and so inside, too: True is not 1 and a list no tuple."""
+        self.assertIs(type(found), type(wanted))
+        self.assertEqual(found, wanted)
+        self.assertEqual(repr(found), repr(wanted))
+
+    def assert_error(self, kind, attributes, action, *passed, **named):
+        """The action raises just this kind of error, with just these attributes."""
+        with self.assertRaises(kind) as caught:
+            action(*passed, **named)
+        self.assertIs(type(caught.exception), kind)
+        self.assertEqual(sorted(vars(caught.exception)), sorted(attributes))
+        for name, value in attributes.items():
+            self.assert_same(getattr(caught.exception, name), value)
+
+
+def odd_values():
+    """Values of every kind, none of which is a name, a list of names, a level or a line."""
+    return [
+        None, True, False, -1, 12, 10 ** 29, -(10 ** 29), 10 ** 30 - 1,
+        "", "A", "aB", "a b", "a_", "a-b", "abcdefg", " a", "a\n", "(", "a,b",
+        [None], ["A"], [["a"]], [[]], [{}], (None,), (("a",),), ((), ()),
+        {}, {"a": 1}, {0: "a"}, {True: None}, [True, False], (0, 1), (True, 1),
+        Sheet([["zz"]]), [Sheet([["zz"]])], (Sheet([["zz"]]), "a"), b"a", deep(40),
+    ]
+
+
+def deep(depth):
+    value = []
+    for _ in range(depth - 1):
+        value = [value]
+    return value
+
+
+def odd_lines():
+    """Values that are no line of any sheet in which a, b, c, d, e are nodes and a to d is a line."""
+    return odd_values() + [
+        (), ("a",), ("a", "d", "e"), ["a", "d"], "ad", [("a", "d")], (("a", "d"),), {"a": "d"},
+        ("a", None), (None, "d"), ("a", ["d"]), (["a"], "d"), ({}, {}), ("a", {}), ([], []),
+        ("a", ("d",)), (("a",), "d"), (0, 1), (True, "d"), ("a", 1), ("a", "nope"), ("nope", "d"),
+        ("A", "d"), ("a", "d\n"), (b"a", "d"), ("a", "a"), ("", ""),
+    ]
+
+
+def grid(levels, nodes):
+    """Levels of so many nodes each, named so that they come sorted."""
+    return [[f"n{level:02d}x{node:02d}" for node in range(nodes)] for level in range(levels)]
+
+
+def all_lines(levels):
+    """All lines that can be between these levels."""
+    return [(low, high) for lows, highs in zip(levels, levels[1:]) for low in lows for high in highs]
+
+
+def full_sheet():
+    """A sheet with as many levels, nodes on each and lines as can be."""
+    levels = grid(12, 18)
+    return Sheet(levels, all_lines(levels)[:200])

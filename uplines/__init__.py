@@ -1,0 +1,1 @@
+"""Uplines: nodes on levels, drawn without a crossing."""
