@@ -50,6 +50,31 @@ def odd_lines():
     ]
 
 
+def odd_pairs():
+    """Values that are no pair of any sheet with a, b on level 0 and c, d on level 1."""
+    return odd_values() + [
+        (), ("a",), ("a", "b", "c"), ["a", "b"], "ab", [("a", "b")], (("a", "b"),), {"a": "b"}, {"a": 1, "b": 2},
+        ("a", None), (None, "b"), ("a", ["b"]), (["a"], "b"), ({}, {}), ([], []), ("a", ("b",)), (("a",), "b"),
+        (0, 1), (True, "b"), ("a", 1), ("a", "nope"), ("nope", "b"), ("A", "b"), ("a", "b\n"), (b"a", "b"),
+        ("a", "a"), ("a", "c"), ("c", "b"), ("", ""), ("a", ("a", "c")), (("a", "c"), ("b", "d")),
+    ]
+
+
+def odd_counts():
+    """Values that are no counts."""
+    return [value for value in odd_values() if not (type(value) is int and value >= 0)] + ["1", [1], (0,), b"1"]
+
+
+def odd_orders():
+    """Values that are no order of a level with just a, b and c."""
+    return odd_values() + [
+        [], (), ["a"], ["a", "b"], ["a", "b", "b"], ["a", "b", "c", "a"], ["a", "b", "d"], ["a", "b", "c", "d"],
+        "abc", {"a": 1, "b": 2, "c": 3}, [["a", "b", "c"]], (("a", "b", "c"),), [["a"], ["b"], ["c"]],
+        ["a", "b", None], ["a", "b", 1], [True, "b", "c"], ["a", "b", ["c"]], ["a", "b", {}], [0, 1, 2],
+        ["a", "b", "C"], ["a", "b", "c\n"], ["a", "b", b"c"], b"abc",
+    ]
+
+
 def grid(levels, nodes):
     """Levels of so many nodes each, named so that they come sorted."""
     return [[f"n{level:02d}x{node:02d}" for node in range(nodes)] for level in range(levels)]
