@@ -75,6 +75,29 @@ def odd_orders():
     ]
 
 
+def odd_tellings():
+    """Values that are no told orders of any sheet with just a and b on level 0, and c, d, e on level 1 of two."""
+    good, other = ["a", "b"], ["e", "c", "d"]
+    return [value for value in odd_values() if value != {}] + [
+        [], (), [good], [good, other], (0, good), "ab", {2: good}, {-1: other}, {0: other}, {1: good}, {None: good},
+        {True: other}, {False: good}, {0: good, True: other}, {False: good, 1: other}, {"0": good}, {(0,): good},
+        {0: good, 1: other, 2: []}, {0: good, 1: None}, {0: None, 1: other}, {0: []}, {0: ["a"]}, {0: "ab"},
+        {0: ["a", "a"]}, {0: ["a", "b", "b"]}, {0: {"a": 1, "b": 2}}, {0: [["a"], "b"]}, {0: ["a", None]},
+        {0: [good]}, {1: ["c", "d", "f"]}, {1: "cde"}, {1: ["c", "d", 1]}, {0: True}, {0: 0}, {10 ** 29: good},
+    ]
+
+
+def odd_pair_lists():
+    """Values that are no list of pairs of a sheet with a, b on level 0 and c, d on level 1, with the position told."""
+    good = [("a", "b"), ("d", "c"), ("a", "b")]
+    found = [(None, value) for value in odd_values() if not isinstance(value, (list, tuple))]
+    found += [(None, value) for value in ["ab", {("a", "b"): True}, b"ab", {0: ("a", "b")}]]
+    for at in range(4):
+        found += [(at, good[:at] + [value] + good[at:]) for value in odd_pairs()]
+        found += [(at, (*good[:at], value, None)) for value in odd_pairs()]
+    return found + [(0, ("a", "b")), (0, ["ab"]), (1, [("a", "b"), ["a", "b"]])]
+
+
 def grid(levels, nodes):
     """Levels of so many nodes each, named so that they come sorted."""
     return [[f"n{level:02d}x{node:02d}" for node in range(nodes)] for level in range(levels)]

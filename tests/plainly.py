@@ -20,7 +20,9 @@ def random_sheet(seed, levels, nodes, share):
     chance = random.Random(seed)
     names = [f"{letter}{number}" for letter in "abcdef" for number in range(6)]
     chance.shuffle(names)
-    told = [[names.pop() for _ in range(chance.randint(0 if seed % 7 == 0 else 1, nodes))] for _ in range(levels)]
+    least = 0 if seed % 7 == 0 else 1
+    told = [[names.pop() for _ in range(max(chance.randint(least, nodes), chance.randint(least, nodes)))]
+            for _ in range(levels)]
     lines = [(low, high) for lows, highs in zip(told, told[1:]) for low in lows for high in highs]
     return Sheet(told, [line for line in lines if chance.randrange(10) < share])
 
@@ -44,7 +46,7 @@ def grown_sheet(seed, levels, nodes):
 def sheets_of_three_levels(many):
     """Sheets of three levels with up to three nodes on each, some with an empty level."""
     for seed in range(many):
-        yield random_sheet(seed, 3, 3, 2 + seed % 5)
+        yield random_sheet(seed, 3, 3, 2 + seed % 6)
 
 
 def samples(many=60):
@@ -95,11 +97,6 @@ def pairs_of(sheet):
     return [pair for names in sheet.levels() for pair in itertools.permutations(names, 2)]
 
 
-def leads(sheet, start, goal):
-    """Whether a step leads from a pair to another one."""
-    return goal in near_pairs(sheet)[start]
-
-
 def near_pairs(sheet):
     """The dict from each pair to the list of the pairs to which a step leads, by looking at all of them."""
     lines = set(sheet.lines())
@@ -138,3 +135,56 @@ def is_walk_plainly(sheet, value):
     near = near_pairs(sheet)
     return len(value) > 0 and all(pair in near for pair in value) and all(
         goal in near[pair] for pair, goal in zip(value, value[1:]))
+
+
+def tellings(sheet, every=1):
+    """All dicts from some levels of a sheet to orders of these, or every so manieth of them."""
+    told = [{}]
+    for level, names in enumerate(sheet.levels()):
+        orders = [list(order) for order in itertools.permutations(names)]
+        told += [{**ahead, level: order} for ahead in told for order in orders]
+    return told[::every]
+
+
+def widened_plainly(sheet, orders):
+    """The levels and the lines of a sheet widened by told orders, as the document tells it."""
+    rows = [row for level in range(len(sheet)) for row in [("own", level), ("put in", level)]
+            if row[0] == "own" or level in orders]
+    names = (str(number) for number in itertools.count(1) if str(number) not in list(sheet))
+    spine = {row: next(names) for row in rows}
+    levels = {row: [spine[row]] + (sheet.level(row[1]) if row[0] == "own" else []) for row in rows}
+    lines = [(spine[row], spine[above]) for row, above in zip(rows, rows[1:])]
+    lines += [line for line in sheet.lines() if sheet.level_of(line[0]) not in orders]
+    for level in sorted(orders):
+        for low, high in [line for line in sheet.lines() if sheet.level_of(line[0]) == level]:
+            through = next(names)
+            levels["put in", level].append(through)
+            lines += [(low, through), (through, high)]
+        standing = [spine["own", level]] + list(orders[level])
+        for pair in zip(standing, standing[1:]):
+            between = next(names)
+            levels["put in", level].append(between)
+            lines += [(node, between) for node in pair]
+    return Sheet([levels[row] for row in rows], lines)
+
+
+def closure(sheet, pairs):
+    """What follows from told pairs, by putting in what is missing over and over."""
+    near = near_pairs(sheet)
+    found = set(pairs)
+    while True:
+        more = {goal for pair in found for goal in near[pair]}
+        more |= {(one[0], other[1]) for one in found for other in found if one[1] == other[0] and one[0] != other[1]}
+        if more <= found:
+            return sorted(found)
+        found |= more
+
+
+def lists_of_pairs(sheet):
+    """Some lists of pairs of a sheet: none, single ones, several, one of them twice."""
+    pairs = pairs_of(sheet)
+    found = [[], pairs, pairs[:1] * 2]
+    found += [[pair] for pair in pairs[::3]]
+    found += [[pair, pairs[at // 2], pairs[-1 - at // 3]] for at, pair in enumerate(pairs[::4])]
+    found += [[pair, pairs[(at * 5 + 3) % len(pairs)], pair] for at, pair in enumerate(pairs[::3])]
+    return found

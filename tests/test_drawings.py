@@ -152,6 +152,10 @@ class CrossingTests(Case):
         sheet = Sheet([["a", "b"], ["c", "d"], ["e", "f"]], [("a", "c"), ("d", "e"), ("b", "d"), ("c", "f")])
         self.assert_same(Drawing.plain(sheet).crossings(), [(("c", "f"), ("d", "e"))])
 
+    def test_sorted_whatever_the_gap(self):
+        sheet = Sheet([["y", "z"], ["a", "b"], ["p", "q"]], [("y", "b"), ("z", "a"), ("a", "q"), ("b", "p")])
+        self.assert_same(Drawing.plain(sheet).crossings(), [(("a", "q"), ("b", "p")), (("y", "b"), ("z", "a"))])
+
     def test_against_all_lines(self):
         for sheet in samples(20):
             for choice in every_choice(sheet)[::3]:

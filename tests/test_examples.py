@@ -27,7 +27,6 @@ STAGE_2 = """
 >>> [walkers.go(("b", "a")).have_changed(), len(walkers), walkers.back(), walkers.way(), lines_of(square, walkers.way())]
 [True, 2, ('c', 'd'), [('a', 'b'), ('c', 'd')], [('a', 'c'), ('b', 'd')]]
 """
-
 STAGE_3 = """
 >>> from uplines.clean import first_clean, going_up, has_clean, paper, together
 >>> from uplines.drawings import Drawing
@@ -41,6 +40,44 @@ STAGE_3 = """
 [[(('a', 'c'), ('b', 'd'))], False, True, 1, True]
 >>> [together(lower, 0, ["b", "a"]), going_up(lower, 0), going_up(full, 0), going_up(full, 1)]
 [[['d', 'c']], [['a', 'b'], ['b', 'a']], [], [['c', 'd'], ['d', 'c']]]
+"""
+STAGE_4 = """
+>>> from uplines.sheets import Sheet
+>>> from uplines.told import Told, bar, is_bar, may_be, orders_beside, orders_of, settled, widened
+>>> sheet = Sheet([["a", "b"], ["c", "d"]], [("a", "c"), ("b", "d")])
+>>> wide = widened(sheet, {0: ["b", "a"]})
+>>> wide.levels()
+[['1', 'a', 'b'], ['2', '4', '5', '6', '7'], ['3', 'c', 'd']]
+>>> wide.lines()
+[('1', '2'), ('1', '6'), ('2', '3'), ('4', 'c'), ('5', 'd'), ('a', '4'), ('a', '7'), ('b', '5'), ('b', '6'), ('b', '7')]
+>>> [orders_of(sheet, 0), orders_beside(sheet, 0, ["b", "a"], 1), settled(sheet, {1: ["c", "d"]}), may_be(sheet, {0: ["a", "b"], 1: ["d", "c"]})]
+[[['a', 'b'], ['b', 'a']], [['d', 'c']], [0, 1], False]
+>>> crossed = {0: ["a", "b"], 1: ["d", "c"]}
+>>> [bar(sheet, {0: ["a", "b"]}), is_bar(sheet, crossed, bar(sheet, crossed)), Told(sheet, {0: ["b", "a"]}).settle(), (~Told(sheet, crossed))[1]]
+[None, True, Told({0: ['b', 'a'], 1: ['d', 'c']}), ['c', 'd']]
+"""
+STAGE_5 = """
+>>> from uplines.fences import bound, can_keep, fence, is_fence
+>>> from uplines.pairs import does_clash, follows, is_trace
+>>> from uplines.sheets import Sheet
+>>> sheet = Sheet([["a", "b", "c"], ["u", "v"]], [("a", "u"), ("b", "v"), ("c", "v")])
+>>> [follows(sheet, [("b", "a")]), does_clash(sheet, [("a", "b"), ("c", "a")]), bound(sheet, [("a", "b")])]
+[[('b', 'a'), ('c', 'a'), ('v', 'u')], True, [('a', 'b'), ('a', 'c'), ('u', 'v')]]
+>>> is_trace(sheet, [("b", "a")], ("c", "a"), [("told", ("b", "a")), ("step", ("v", "u"), 0), ("step", ("c", "a"), 1)])
+True
+>>> told = [("b", "a"), ("a", "c")]
+>>> [can_keep(sheet, told), is_fence(sheet, told, fence(sheet, told)), fence(sheet, [("b", "a")])]
+[False, True, None]
+>>> [is_fence(sheet, [("b", "a"), ("a", "c")], [[["b", "a", "c"]], []]), is_fence(sheet, [("b", "a")], [[["b", "a", "c"]], []])]
+[True, False]
+"""
+# Of stage 6 what speaks of counts.
+STAGE_6 = """
+>>> from uplines.counts import Gallery, drawing_at, how_many
+>>> from uplines.sheets import Sheet
+>>> sheet = Sheet([["a", "b", "c"], ["x", "y"]], [("a", "x"), ("b", "y"), ("c", "y")])
+>>> [how_many(sheet), drawing_at(sheet, 2).orders(), Gallery(sheet)[-1].orders()]
+[4, [['b', 'c', 'a'], ['y', 'x']], [['c', 'b', 'a'], ['y', 'x']]]
 """
 README = pathlib.Path(__file__).resolve().parent.parent / "README.md"
 
@@ -62,6 +99,15 @@ class ExampleTests(unittest.TestCase):
 
     def test_stage_3(self):
         self.run_examples("stage 3", STAGE_2, STAGE_3)
+
+    def test_stage_4(self):
+        self.run_examples("stage 4", STAGE_4)
+
+    def test_stage_5(self):
+        self.run_examples("stage 5", STAGE_5)
+
+    def test_stage_6(self):
+        self.run_examples("stage 6", STAGE_6)
 
     def test_readme(self):
         self.run_examples("README.md", README.read_text())

@@ -15,6 +15,23 @@ FUNCTIONS = {
         has_clean(sheet) first_clean(sheet) last_clean(sheet) together(sheet, level, order) going_up(sheet, level)
         going_down(sheet, level) paper(sheet) is_paper(sheet, value)
     """,
+    "told": """
+        widened(sheet, orders) bar(sheet, orders) is_bar(sheet, orders, value) may_be(sheet, orders)
+        first_with(sheet, orders) settled(sheet, orders) orders_of(sheet, level)
+        orders_beside(sheet, level, order, other) are_free(sheet, one, other)
+    """,
+    "pairs": """
+        follows(sheet, pairs) does_clash(sheet, pairs) trace(sheet, pairs, pair) is_trace(sheet, pairs, pair, value)
+        clash(sheet, pairs) is_clash(sheet, pairs, value)
+    """,
+    "fences": """
+        keeps(drawing, pairs) drawing_with(sheet, pairs) can_keep(sheet, pairs) fence(sheet, pairs)
+        is_fence(sheet, pairs, value) bound(sheet, pairs) is_bound(sheet, pairs, pair)
+    """,
+    "counts": """
+        how_many(sheet) drawings(sheet) drawing_at(sheet, number) number_of(sheet, drawing) count_with(sheet, orders)
+        count_pairs(sheet, pairs)
+    """,
 }
 CLASSES = {
     "walkers.Walkers": """
@@ -25,6 +42,14 @@ CLASSES = {
         __init__(self, sheet, orders) orders(self) is_left(self, one, other) crossings(self) crossings_at(self, node)
         turned(self) with_order(self, level, order) swapped(self, level, position)
         __getitem__ __neg__ __invert__ __sub__ __iter__ __eq__ __repr__ :sheet :is_clean
+    """,
+    "told.Told": """
+        __init__(self, sheet, orders) levels(self) orders(self) is_within(self, other) may_be(self) settle(self)
+        __call__(self, drawing) __getitem__ __len__ __contains__ __add__ __radd__ __sub__ __invert__ __or__ __eq__
+        __repr__ :sheet
+    """,
+    "counts.Gallery": """
+        __init__(self, sheet) how_many(self) index(self, drawing) __getitem__ __contains__ __eq__ :sheet
     """,
 }
 CLASS_METHODS = {"drawings.Drawing": "plain(sheet)"}

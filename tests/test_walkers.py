@@ -4,7 +4,7 @@ import copy
 import unittest
 
 from checking import Case, deep, full_sheet, grid, odd_counts, odd_pairs, odd_values
-from plainly import distances, grown_sheet, is_walk_plainly, leads, least_turning, near_pairs, pairs_of, samples
+from plainly import distances, grown_sheet, is_walk_plainly, least_turning, near_pairs, pairs_of, samples
 from uplines.errors import InvalidNumber, InvalidPair, InvalidWalk, TooMany
 from uplines.sheets import Sheet
 from uplines.walkers import (
@@ -359,12 +359,12 @@ class AllWalksTests(Case):
 
     def test_all_of_them_sorted(self):
         for sheet in samples(20):
+            near = near_pairs(sheet)
             for start in pairs_of(sheet)[::3]:
                 wanted = [[start]]
                 for number in range(5):
                     self.assert_same(list(all_walks(sheet, start, number)), wanted)
-                    wanted = [way + [pair] for way in wanted for pair in sorted(pairs_of(sheet))
-                              if leads(sheet, way[-1], pair)]
+                    wanted = [way + [pair] for way in wanted for pair in sorted(near[way[-1]])]
 
     def test_two_at_once(self):
         one, other = all_walks(square(), ("a", "b"), 3), all_walks(square(), ("a", "b"), 3)

@@ -55,7 +55,6 @@ def going_down(sheet, level):
 
 def paper(sheet):
     """The orders of a clean drawing, or a change, with the word for it."""
-    check_small(sheet)
     drawing = first_clean(sheet)
     if drawing is None:
         return ("change", change(sheet))
