@@ -188,3 +188,31 @@ def lists_of_pairs(sheet):
     found += [[pair, pairs[at // 2], pairs[-1 - at // 3]] for at, pair in enumerate(pairs[::4])]
     found += [[pair, pairs[(at * 5 + 3) % len(pairs)], pair] for at, pair in enumerate(pairs[::3])]
     return found
+
+
+def clean_samples(many=40):
+    """Some sheets of each kind, each with all lists of orders in which no two lines cross."""
+    return [(sheet, clean_choices(sheet)) for sheet in samples(many)]
+
+
+def drawn_samples(many=40):
+    """Those of them that have a clean drawing."""
+    return [(sheet, choices) for sheet, choices in clean_samples(many) if choices]
+
+
+def plain_text(sheet):
+    """The text of a sheet."""
+    text = ""
+    for names in sheet.levels():
+        text += " ".join(["level"] + names) + "\n"
+    for low, high in sheet.lines():
+        text += f"line {low} {high}\n"
+    return text
+
+
+def word_plainly(choices, pair, other):
+    """How two pairs are told by all lists of orders without a crossing."""
+    with_it = [choice for choice in choices if has_pair(choice, pair)]
+    if all(has_pair(choice, other) for choice in with_it):
+        return "alike"
+    return "turned" if all(has_pair(choice, other[::-1]) for choice in with_it) else "free"

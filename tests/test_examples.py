@@ -71,13 +71,61 @@ True
 >>> [is_fence(sheet, [("b", "a"), ("a", "c")], [[["b", "a", "c"]], []]), is_fence(sheet, [("b", "a")], [[["b", "a", "c"]], []])]
 [True, False]
 """
-# Of stage 6 what speaks of counts.
 STAGE_6 = """
 >>> from uplines.counts import Gallery, drawing_at, how_many
 >>> from uplines.sheets import Sheet
+>>> from uplines.sure import between, blocks, decides, may_end, neighbours, sure_classes, sure_ends, sure_word
 >>> sheet = Sheet([["a", "b", "c"], ["x", "y"]], [("a", "x"), ("b", "y"), ("c", "y")])
->>> [how_many(sheet), drawing_at(sheet, 2).orders(), Gallery(sheet)[-1].orders()]
-[4, [['b', 'c', 'a'], ['y', 'x']], [['c', 'b', 'a'], ['y', 'x']]]
+>>> [how_many(sheet), drawing_at(sheet, 2).orders(), Gallery(sheet)[-1].orders(), sure_word(sheet, ("a", "b"), ("x", "y"))]
+[4, [['b', 'c', 'a'], ['y', 'x']], [['c', 'b', 'a'], ['y', 'x']], 'alike']
+>>> [between(sheet, ["c", "a", "b"]), neighbours(sheet), may_end(sheet, 0), sure_ends(sheet, 0), blocks(sheet, 0)]
+[['b', 'c'], [('b', 'c'), ('x', 'y')], ['a', 'b', 'c'], ['a'], [['b', 'c']]]
+>>> [sure_classes(sheet), decides(sheet, 0, 1), decides(sheet, 1, 0)]
+[[[('a', 'b'), ('a', 'c'), ('x', 'y')], [('b', 'c')]], True, False]
+"""
+STAGE_7 = """
+>>> from uplines.struck import Strike, fewest, helps, is_tree_against, least_lists, surely_struck, tree_against
+>>> [fewest(square), least_lists(square), surely_struck(square), tree_against(square, 1)]
+[1, [[('a', 'c')], [('a', 'd')], [('b', 'c')], [('b', 'd')]], [], None]
+>>> is_tree_against(square, 0, ("change", [("c", "d"), ("b", "a"), ("d", "c")]))
+True
+>>> wide = Sheet([["a", "b"], ["c", "d", "e"]], [("a", "c"), ("a", "d"), ("a", "e"), ("b", "c"), ("b", "d"), ("b", "e")])
+>>> [fewest(wide), len(least_lists(wide)), helps(wide, [("a", "c")]), Strike(wide, ("a", "d"), ("b", "e")).does_help, tree_against(wide, 1)[0]]
+[2, 12, False, True, 'strike']
+>>> one = Strike(square, ("a", "c"))
+>>> [one, one.is_within(one + ("b", "d")), (one | Strike(square, ("a", "d"))).lines(), Strike.least(square) == one, one.rest == square - ("a", "c")]
+[Strike([('a', 'c')]), True, [('a', 'c'), ('a', 'd')], True, True]
+"""
+STAGE_8 = """
+>>> from uplines.growing import Grower
+>>> from uplines.more import coming, filled, foes, is_refusal, may_come
+>>> sheet = Sheet([["b", "a"], ["c", "d"]], [("b", "c"), ("a", "d")])
+>>> [coming(sheet), foes(sheet), filled(sheet).lines()]
+[[('a', 'c'), ('b', 'd')], [(('a', 'c'), ('b', 'd'))], [('a', 'c'), ('a', 'd'), ('b', 'c')]]
+>>> [may_come(filled(sheet), ("b", "d")), is_refusal(filled(sheet), ("b", "d"), [("d", "c"), ("a", "b"), ("c", "d")])]
+[False, True]
+>>> grower = Grower(["a", "b"])
+>>> [grower.level(), grower.node("c"), grower.node("d"), grower([("a", "d"), ("b", "c")]), grower.orders()]
+[1, None, None, 2, [['c', 'd'], ['d', 'c']]]
+>>> grower.tie("a", "c")
+>>> [grower.may("b", "d"), len(grower), grower.undo(), grower.log()[-1]]
+[False, 5, None, ('lines', [('a', 'd'), ('b', 'c')])]
+"""
+STAGE_9 = """
+>>> from uplines.claims import is_paper, is_true, paper_for
+>>> from uplines.desk import Desk
+>>> from uplines.texts import read_sheet, text_of
+>>> text_of(lower)
+'level a b\\nlevel c d\\nline a c\\nline a d\\nline b d\\n'
+>>> [read_sheet(text_of(full)) == full, is_true({"claim": "crossed", "sheet": text_of(full)}), is_true({"claim": "count", "sheet": text_of(lower), "number": 2})]
+[True, True, True]
+>>> paper_for({"claim": "count", "sheet": text_of(lower), "number": 2})
+[{('a', 'b'): 1, ('b', 'a'): 1}, {('c', 'd'): 1, ('d', 'c'): 1}]
+>>> desk = Desk(Sheet([["a", "b"]]))
+>>> desk.do_all("level c d", "line a c", "line b d", "clean", "first", "many", "line a d", "line b c", "clean", "far", "fewest", "undo", "orders 1")
+['1', 'done', 'done', 'yes', 'a,b c,d', '2', 'done', 'done', 'no', '3', '1', '4', 'c,d d,c']
+>>> [desk("sure a b c d"), desk("sure a b d c"), len(desk), Desk.is_command("line a"), desk.log()[-1]]
+['alike', 'turned', 4, False, 'line a d']
 """
 README = pathlib.Path(__file__).resolve().parent.parent / "README.md"
 
@@ -108,6 +156,19 @@ class ExampleTests(unittest.TestCase):
 
     def test_stage_6(self):
         self.run_examples("stage 6", STAGE_6)
+
+    def test_stage_7(self):
+        self.run_examples("stage 7", STAGE_2, STAGE_7)
+
+    def test_stage_8(self):
+        self.run_examples("stage 8", STAGE_1, STAGE_8)
+
+    def test_stage_9(self):
+        self.run_examples("stage 9", STAGE_3, STAGE_9)
+
+    def test_one_after_the_other(self):
+        stages = [STAGE_1, STAGE_2, STAGE_3, STAGE_4, STAGE_5, STAGE_6, STAGE_7, STAGE_8, STAGE_9]
+        self.run_examples("all stages", *stages)
 
     def test_readme(self):
         self.run_examples("README.md", README.read_text())

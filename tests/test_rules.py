@@ -62,6 +62,14 @@ def called(tree):
             yield node.func.id if isinstance(node.func, ast.Name) else node.func.attr
 
 
+def is_plain(value):
+    """Whether what a name at module level is given is a constant, or a tuple or a dict of constants."""
+    if isinstance(value, ast.Dict):
+        return all(isinstance(part, ast.Constant) for part in value.keys + value.values)
+    parts = value.elts if isinstance(value, ast.Tuple) else [value]
+    return all(isinstance(part, ast.Constant) for part in parts)
+
+
 class NameTests(unittest.TestCase):
     def test_module_level(self):
         for name, tree in TREES.items():
@@ -73,7 +81,7 @@ class NameTests(unittest.TestCase):
                 if isinstance(node, ast.ImportFrom):
                     bound += [word.name for word in node.names]
                 elif isinstance(node, ast.Assign):
-                    self.assertIsInstance(node.value, ast.Constant, f"{name}, {node.lineno}")
+                    self.assertTrue(is_plain(node.value), f"{name}, {node.lineno}")
                     bound += [target.id for target in node.targets]
                 elif not is_text:
                     bound.append(node.name)
@@ -149,10 +157,36 @@ class ImportTests(unittest.TestCase):
 
 class FormTests(unittest.TestCase):
     def test_what_is_not_used(self):
-        barred = (ast.AugAssign, ast.GeneratorExp, ast.Try, ast.Global, ast.AsyncFunctionDef, ast.Await, ast.AnnAssign,
-                  ast.YieldFrom, ast.Lambda, ast.Match, ast.NamedExpr, ast.Import)
+        barred = (ast.AugAssign, ast.GeneratorExp, ast.Global, ast.AsyncFunctionDef, ast.Await, ast.AnnAssign,
+                  ast.YieldFrom, ast.Lambda, ast.Match, ast.NamedExpr, ast.Import, ast.With, ast.Nonlocal, ast.Assert)
         for node, place in nodes(barred):
             self.fail(f"{place}: {node}")
+
+    def test_tries(self):
+        """Only errors of the package are caught, by name; in a finally an attribute is given a name's value back."""
+        own = {node.name for node in TREES["errors"].body if isinstance(node, ast.ClassDef)}
+        for node, place in nodes(ast.Try):
+            for handler in node.handlers:
+                told = handler.type.elts if isinstance(handler.type, ast.Tuple) else [handler.type]
+                self.assertLessEqual({kind.id for kind in told}, own, place)
+            for row in node.finalbody:
+                self.assertIsInstance(row, ast.Assign, place)
+                self.assertIsInstance(row.targets[0], ast.Attribute, place)
+                self.assertIsInstance(row.value, ast.Name, place)
+
+    def test_raised_on_the_spot(self):
+        own = {node.name for node in TREES["errors"].body if isinstance(node, ast.ClassDef)} | {"TypeError"}
+        for node, place in nodes(ast.Raise):
+            self.assertTrue(isinstance(node.exc, ast.Call) and node.exc.func.id in own, place)
+            self.assertTrue(node.cause is None or isinstance(node.cause, ast.Name), place)
+
+    def test_stars(self):
+        """Behind a star in a call stands a name; nothing follows it."""
+        for node, place in nodes(ast.Call):
+            for at, value in enumerate(node.args):
+                if isinstance(value, ast.Starred):
+                    self.assertIsInstance(value.value, ast.Name, place)
+                    self.assertEqual([at, node.keywords], [len(node.args) - 1, []], place)
 
     def test_no_functions_in_functions(self):
         for function, place in nodes(ast.FunctionDef):
@@ -196,6 +230,26 @@ class FormTests(unittest.TestCase):
 
 
 class ClassTests(unittest.TestCase):
+    def test_exits(self):
+        """What stands in an exit is the assignment of an attribute, and asks of the error only whether there is one."""
+        exits = [method for kind in classes().values() for method in methods(kind) if method.name == "__exit__"]
+        self.assertEqual(len(exits), 3)
+        for method in exits:
+            for node in ast.walk(method):
+                if isinstance(node, ast.Assign):
+                    self.assertIsInstance(node.value, ast.Attribute)
+                self.assertNotIsInstance(node, (ast.Call, ast.BinOp, ast.Subscript, ast.Return))
+
+    def test_what_changes_objects_is_not_called_by_name(self):
+        """Sheet.level tells, Grower.level changes, so that neither is called within the package."""
+        for tree in TREES.values():
+            self.assertNotIn("level", set(called(tree)))
+
+    def test_set_properties(self):
+        """Not each class with a sheet lets it be set, so the package never sets one."""
+        for node, place in nodes(ast.Attribute):
+            self.assertFalse(isinstance(node.ctx, ast.Store) and node.attr in ("sheet", "pair"), place)
+
     def test_length(self):
         for kind in classes().values():
             for method in methods(kind):
@@ -249,6 +303,10 @@ class ClassTests(unittest.TestCase):
                 if node.func.attr in MODIFYING | {"add", "discard"}:
                     held = node.func.value
                     held = held.value if isinstance(held, ast.Subscript) else held
+                    # Items that a dict of its own is given on the spot are its own, too.
+                    if isinstance(held, ast.Call) and isinstance(held.func, ast.Attribute):
+                        self.assertEqual(held.func.attr, "setdefault", function.name)
+                        held = held.func.value
                     self.assertTrue(isinstance(held, ast.Name) and held.id in fresh, function.name)
 
     def test_generators(self):

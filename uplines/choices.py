@@ -60,7 +60,7 @@ def forced_by(order, lines, bits):
 def fitting(sheet, level, orders, uppers):
     """The dict from each order of a level to those of the next level up that go together with it."""
     lines = sheet.gap(level)
-    bits = bits_of(sheet.level(level + 1))
+    bits = bits_of(sheet.levels()[level + 1])
     held = {upper: held_by(upper, bits) for upper in uppers}
     # Many orders force the same, above a gap with few lines above all.
     known = {}
@@ -147,6 +147,19 @@ class Choices:
             reached = {upper: True for order in found[-1] for upper in fits[order]}
             found.append(sorted(reached))
         return found
+
+    def bits_with(self, level, pair):
+        """The bits of the orders of a level that have a pair, as reach tells them."""
+        return sum([1 << at for at, order in enumerate(self._counted[level]) if has_pairs(order, [pair])])
+
+    def both(self, low, high):
+        """The list of all tuples of an order of level low and one of level high that can be had with it."""
+        bits = self.reach(low, high)
+        uppers = list(self._counted[high])
+        return [
+            (order, upper)
+            for order in self.by_level()[low] for at, upper in enumerate(uppers) if ((bits[order] >> at) & 1) == 1
+        ]
 
     def reach(self, low, high):
         """The dict from each order of level low to the bits of those of level high that can be had with it."""

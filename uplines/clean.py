@@ -3,7 +3,7 @@
 from uplines.checks import are_orders_of, check_level, check_order, check_small
 from uplines.choices import Choices, all_orders, first_drawing, fitting, free_rows
 from uplines.drawings import Drawing
-from uplines.errors import InvalidLevel
+from uplines.errors import InvalidLevel, NothingClean
 from uplines.walkers import change, has_change, is_change
 
 
@@ -35,7 +35,7 @@ def together(sheet, level, order):
     check_order(sheet, level, order)
     check_small(sheet)
     told = tuple(order)
-    fits = fitting(sheet, level, [told], all_orders(sheet.level(level + 1)))
+    fits = fitting(sheet, level, [told], all_orders(sheet.levels()[level + 1]))
     return [list(upper) for upper in fits[told]]
 
 
@@ -69,6 +69,13 @@ def is_paper(sheet, value):
     if word == "orders":
         return are_orders_of(sheet, shown) and Drawing(sheet, shown).is_clean
     return word == "change" and is_change(sheet, shown)
+
+
+def check_clean_and_small(sheet):
+    """Raise NothingClean if the sheet has no clean drawing, and behind that TooMany unless it is small."""
+    if not has_clean(sheet):
+        raise NothingClean()
+    check_small(sheet)
 
 
 def orders_in_clean(sheet, level):

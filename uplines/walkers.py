@@ -4,8 +4,9 @@ from uplines.basics import is_list
 from uplines.checks import check_count, check_pair, is_pair_of
 from uplines.errors import InvalidWalk, NothingToUndo, Refused
 from uplines.nets import check_limit
-from uplines.ways import classes_of, pairs_in_changes, reached_ahead, shortest_change, shortest_turning
-from uplines.ways import steps_by_pair, steps_from, turned, way_to
+from uplines.saving import Saved
+from uplines.ways import classes_of, does_turn, gaps_of, lines_passed, reached_ahead, shortest_change, shortest_turning
+from uplines.ways import steps_along, steps_by_pair, steps_from, turned, way_to
 
 MOST_STEPS = 40
 
@@ -67,7 +68,7 @@ def is_change(sheet, value):
 
 def has_change(sheet):
     """Whether the sheet has a change at all."""
-    return len(pairs_in_changes(steps_by_pair(sheet))) > 0
+    return does_turn(steps_along(gaps_of(sheet)))
 
 
 def class_of(sheet, pair):
@@ -98,8 +99,7 @@ def lines_of(sheet, way):
     position = first_wrong(sheet, way)
     if position is not None:
         raise InvalidWalk(position)
-    passed = {ends: True for pair, goal in zip(way, way[1:]) for ends in zip(pair, goal)}
-    return [(low, high) for low, high in sheet.lines() if (low, high) in passed or (high, low) in passed]
+    return lines_passed([sheet.lines()], way)
 
 
 def many_walks(sheet, start, goal, number):
@@ -173,14 +173,6 @@ def way_behind(sheet, way):
             # Each step can be gone back, so a walk can always be filled.
             return filled_way(sheet, [*way[:position], later[0]], len(way) - 1)
     return None
-
-
-class Saved:
-    """What walkers go back to if an error leaves a block, and what they held ahead of it."""
-
-    def __init__(self, past, outer):
-        self.past = past
-        self.outer = outer
 
 
 class Walkers:

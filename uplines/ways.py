@@ -20,6 +20,31 @@ def steps_by_pair(sheet):
     return {pair: steps_from(sheet, pair) for pair in sheet.pairs()}
 
 
+def gaps_of(sheet):
+    """The list of the sorted lines of each gap."""
+    return [sheet.gap(number) for number in range(len(sheet) - 1)]
+
+
+def steps_along(gaps):
+    """The dict from each pair from which steps lead, by the lines of each gap, to the list of the pairs where to."""
+    graph = {}
+    for lines in gaps:
+        for low, high in lines:
+            for other_low, other_high in lines:
+                if low != other_low and high != other_high:
+                    graph.setdefault((low, other_low), []).append((high, other_high))
+                    graph.setdefault((high, other_high), []).append((low, other_low))
+    return graph
+
+
+def lines_passed(gaps, way):
+    """The sorted list of those lines along which the steps of a walk go."""
+    passed = {ends: True for pair, goal in zip(way, way[1:]) for ends in zip(pair, goal)}
+    return sorted([
+        (low, high) for lines in gaps for low, high in lines if (low, high) in passed or (high, low) in passed
+    ])
+
+
 def next_layer(graph, layer, ahead, gone):
     """The pairs that are reached first from a layer, which are put into ahead, but none of those that are gone."""
     found = []
@@ -33,10 +58,17 @@ def next_layer(graph, layer, ahead, gone):
 
 def reached_ahead(graph, start):
     """The dict from each pair that can be reached to the one ahead of it on a shortest way from start."""
+    # Nothing but its own lists and dicts is changed here, as properties come to this, too.
     ahead = {start: None}
     layer = [start]
     while len(layer) > 0:
-        layer = next_layer(graph, layer, ahead, {})
+        found = []
+        for pair in layer:
+            for near in graph[pair]:
+                if near not in ahead:
+                    ahead[near] = pair
+                    found.append(near)
+        layer = found
     return ahead
 
 
@@ -71,6 +103,20 @@ def pairs_in_changes(graph):
         if turned(members[0]) in members:
             found.extend(members)
     return found
+
+
+def does_turn(graph):
+    """Whether a way leads from some pair to the same pair turned."""
+    taken = {}
+    for start in graph:
+        if start not in taken:
+            reached = reached_ahead(graph, start)
+            # All pairs of a class can be reached turned, or none can.
+            if turned(start) in reached:
+                return True
+            for pair in reached:
+                taken[pair] = True
+    return False
 
 
 def turned_way_back(way):

@@ -42,7 +42,7 @@ def widened_by(sheet, orders):
     lines = list(zip(spine, spine[1:]))
     for level in range(len(sheet)):
         row = [spine[len(levels)]]
-        levels.append(row + sheet.level(level))
+        levels.append(row + sheet.levels()[level])
         above = lines_above(sheet, level)
         if level not in orders:
             lines.extend(above)
