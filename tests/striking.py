@@ -34,6 +34,12 @@ def uneven():
         ("a0", "b2"), ("a0", "b3"), ("a1", "b0"), ("a1", "b1"), ("a1", "b3"), ("a2", "b0"), ("a2", "b3")])
 
 
+def mixed():
+    """Two lines are enough, and one of these may stand among three that are all wanted."""
+    return Sheet([["a0", "a1", "a2"], ["b0", "b1", "b2", "b3"]], [
+        ("a0", "b1"), ("a0", "b2"), ("a0", "b3"), ("a1", "b1"), ("a1", "b2"), ("a1", "b3"), ("a2", "b0"), ("a2", "b2")])
+
+
 def sure():
     """The line from a2 to b0 is in each least list."""
     return Sheet([["a0", "a1", "a2"], ["b0", "b1", "b2"], ["c0", "c1"]], [
@@ -47,7 +53,7 @@ def free():
 
 def few_lines():
     """Sheets with few lines, eight at most but for one, clean and crossed, of two and three levels."""
-    found = [square(), wide(), three(), uneven(), sure(), free()]
+    found = [square(), wide(), three(), uneven(), mixed(), sure(), free()]
     found += [Sheet([[]]), Sheet([["a"]]), Sheet.chain("a", "b", "c")]
     for seed in range(60):
         told = random_sheet(seed, 2 + seed % 2, 3, 5 + seed % 5)

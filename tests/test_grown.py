@@ -236,6 +236,7 @@ class ValueTests(Case):
         one.undo()
         self.assertTrue(one == other)
         self.assertTrue(Grower(["a", "b"]) == Grower(("b", "a")))
+        self.assertFalse(Grower(["a"]) == Grower(["b"]))
         for value in odd_values() + [busy().sheet, busy().log()]:
             self.assertFalse(busy() == value)
             self.assertTrue(busy() != value)

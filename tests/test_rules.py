@@ -281,9 +281,9 @@ class ClassTests(unittest.TestCase):
             if function not in done:
                 done.append(function)
                 self.changes_nothing(function)
-                waiting += [other for name in called(function) if name not in METHODS_OF_BUILTINS
-                            for other in own.get(name, [])]
-        self.assertGreater(len(done), 20)
+                # By the name alone: whatever the package calls so may be meant.
+                waiting += [other for name in called(function) for other in own.get(name, [])]
+        self.assertGreater(len(done), 60)
 
     def changes_nothing(self, function):
         made = {}

@@ -7,14 +7,14 @@ import unittest
 from checking import Case, full_sheet, grid, odd_counts, odd_lines, odd_values
 from small_bounds import beyond
 from striking import (
-    Plainly, apart, few_lines, four, free, many_clean_lines, many_lines, square, sure, three, uneven, wide,
+    Plainly, apart, few_lines, four, free, many_clean_lines, many_lines, mixed, square, sure, three, uneven, wide,
 )
 from uplines.clean import has_clean
 from uplines.errors import InvalidLines, InvalidNumber, TooMany
 from uplines.sheets import Sheet
 from uplines.struck import (
-    fewest, helps, is_narrow, is_tree_against, least_lists, may_be_struck, narrow_lists, surely_struck, tree_against,
-    without,
+    Strike, fewest, helps, is_narrow, is_tree_against, least_lists, may_be_struck, narrow_lists, surely_struck,
+    tree_against, without,
 )
 
 ALL_FIVE = (fewest, least_lists, surely_struck, may_be_struck)
@@ -108,6 +108,12 @@ class LeastTests(Case):
                 self.assertTrue(is_narrow(told, some) and helps(told, some))
         self.assertEqual(set(seen), {0, 1, 2, 3})
 
+    def test_narrow_lists_with_lines_in_common(self):
+        found = narrow_lists(mixed(), 3)
+        self.assert_same(found, Plainly(mixed()).narrow(3))
+        self.assertTrue(any(len(some) == 2 and len(more) == 3 and set(some) & set(more)
+                            for some in found for more in found))
+
     def test_narrow_lists(self):
         self.assert_same([narrow_lists(wide(), most) for most in (0, 1)], [[], []])
         self.assert_same(narrow_lists(most=2, sheet=wide()), least_lists(wide()))
@@ -164,6 +170,14 @@ class ErrorTests(Case):
                 self.assert_error(InvalidLines, {"position": 0}, action, told, [value])
                 self.assert_error(InvalidLines, {"position": 1}, action, told, [("a", "d"), value])
                 self.assert_error(InvalidLines, {"position": 1}, action, told, (("b", "c"), value, None))
+
+    def test_a_strike_is_no_list(self):
+        one = Strike(square(), ("a", "c"))
+        for action in (helps, without, is_narrow):
+            self.assert_error(InvalidLines, {"position": None}, action, square(), one)
+            self.assert_error(InvalidLines, {"position": 0}, action, square(), [one])
+            self.assert_same(action(square(), list(one)), action(square(), [("a", "c")]))
+        self.assert_error(InvalidLines, {"position": 0}, Strike, square(), one)
 
     def test_lines_that_stand_ahead(self):
         told = self.sheet()

@@ -5,6 +5,7 @@ import itertools
 import unittest
 
 from checking import Case, full_sheet, odd_counts, odd_pairs, odd_values
+from plainly import grown_sheet
 import reading
 from spoiling import spoilt, told_as_tuples
 from striking import (
@@ -30,7 +31,8 @@ class TreeTests(Case):
 
     def test_a_tree_or_lines_that_help(self):
         seen = []
-        for told in [*few_lines(), four(), many_lines(24), many_lines(17), apart(3), apart(6)]:
+        # Upside down the names of the lower levels come behind those of the upper ones.
+        for told in [*few_lines(), ~three(), ~sure(), four(), many_lines(24), many_lines(17), apart(3), apart(6)]:
             for many in range(3):
                 tree = tree_against(told, many)
                 self.assertEqual(tree is None, fewest(told) is not None and fewest(told) <= many)
@@ -43,6 +45,17 @@ class TreeTests(Case):
                     for other in range(3):
                         self.assert_same(is_tree_against(told, other, tree), other == many)
         self.assertEqual(set(seen), {(many, none) for many in range(3) for none in (True, False)})
+
+    def test_the_lines_of_several_gaps_are_sorted(self):
+        """Upside down, the lines of the upper gap come ahead of those of the lower one."""
+        for seed in (0, 2, 3, 4):
+            one = ~grown_sheet(seed, 3, 3)
+            renamed = [(low.replace("n", "m"), high.replace("n", "m")) for low, high in one.lines()]
+            other = Sheet([[name.replace("n", "m") for name in names] for names in one.levels()], renamed)
+            tree = tree_against(one | other, 1)
+            self.assertEqual(len({one.level_of(line[0].replace("m", "n")) for line in tree[2]}), 2)
+            self.assertTrue(self.is_sorted(tree) and reading.is_tree(one | other, 1, tree))
+            self.assert_same(is_tree_against(one | other, 1, tree), True)
 
     def is_sorted(self, tree):
         if tree[0] == "change":

@@ -20,11 +20,8 @@ def is_claim(value):
     if not isinstance(value, dict) or "claim" not in value or "sheet" not in value:
         return False
     kind = value["claim"]
-    # The word is looked up among keys later on, which not any value can be.
-    if not isinstance(kind, str) or kind not in KINDS:
-        return False
     sheet = small_sheet_of(value["sheet"])
-    if sheet is None:
+    if kind not in KINDS or sheet is None:
         return False
     if kind not in THIRD_KEYS:
         return len(value) == 2

@@ -68,7 +68,7 @@ def reached_ahead(graph, start):
                 if near not in ahead:
                     ahead[near] = pair
                     found.append(near)
-        layer = found
+        layer = list(found)
     return ahead
 
 
